@@ -168,14 +168,15 @@ func TestPromise2Short(t *testing.T) {
 	}
 }
 
-// TestPromise2Long: 200 changes of many kinds, in which windows get long and empty again.
-func TestPromise2Long(t *testing.T) {
+// longLists are valid lists of 200 changes, in which windows get long and empty again.
+func longLists(count int) [][]impl.Op {
 	state := 1
 	next := func(n int) int {
 		state = state * 48271 % 2147483647
 		return state / 1000 % n
 	}
-	for range 40 {
+	var lists [][]impl.Op
+	for range count {
 		var ops []impl.Op
 		size, chance := 0, 1+next(9)
 		for len(ops) < 200 {
@@ -190,6 +191,14 @@ func TestPromise2Long(t *testing.T) {
 				size--
 			}
 		}
+		lists = append(lists, ops)
+	}
+	return lists
+}
+
+// TestPromise2Long: 200 changes, and one too many.
+func TestPromise2Long(t *testing.T) {
+	for _, ops := range longLists(40) {
 		checkOps(t, ops)
 		rejectOps(t, append(ops, push(0)))
 	}
