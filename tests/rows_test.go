@@ -14,6 +14,9 @@ func push(n int) impl.Op { return impl.Op{Push: true, Item: n} }
 
 var take = impl.Op{}
 
+// notSizes are numbers that are no size of a window, and not how far windows begin apart.
+var notSizes = []int{math.MinInt, -60, -1, 0, 61, 62, math.MaxInt - 1, math.MaxInt}
+
 // pushes are count changes that push items, none of them equal to the one before.
 func pushes(count int) []impl.Op {
 	var ops []impl.Op
@@ -386,7 +389,7 @@ func TestSlideInvalid(t *testing.T) {
 			t.Errorf("SlideNumbers(%d, %v, %d) = %v, %v", k, items, size, got, ok)
 		}
 	}
-	for _, size := range []int{math.MinInt, -60, -1, 0, 61, 62, math.MaxInt - 1, math.MaxInt} {
+	for _, size := range notSizes {
 		for _, items := range [][]int{nil, {1}, {1, 2, 3}} {
 			reject(impl.KindSum, items, size)
 		}
