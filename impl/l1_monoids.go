@@ -47,6 +47,7 @@ type kind interface {
 // remover is a kind in which a whole and its first part determine the rest.
 // The rest is not valid if there is none.
 type remover interface {
+	kind
 	rest(a Value, whole Value) Value
 }
 
@@ -73,6 +74,18 @@ func kindOf(k int) (kind, bool) {
 		return riseKind{}, true
 	case KindPlace:
 		return placeKind{}, true
+	}
+	return nil, false
+}
+
+// removerOf returns the operations of the kind k, if the rest is determined in it.
+func removerOf(k int) (remover, bool) {
+	m, ok := kindOf(k)
+	if !ok {
+		return nil, false
+	}
+	if r, ok := m.(remover); ok {
+		return r, true
 	}
 	return nil, false
 }
@@ -133,14 +146,11 @@ func Commutes(k int) bool {
 
 // RemoveFirst returns the aggregate of items without those of another one in front.
 func RemoveFirst(k int, a Value, whole Value) (Value, bool) {
-	m, ok := kindOf(k)
+	m, ok := removerOf(k)
 	if !ok || !m.valid(a) || !m.valid(whole) {
 		return Value{}, false
 	}
-	if r, ok := m.(remover); ok {
-		return checked(m, r.rest(a, whole))
-	}
-	return Value{}, false
+	return checked(m, m.rest(a, whole))
 }
 
 // FoldItems returns the aggregate of a list of items.
