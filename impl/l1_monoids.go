@@ -184,11 +184,16 @@ func isItem(n int) bool {
 
 // areItems reports whether items are few enough for a list, and all of them items.
 func areItems(items []int) bool {
-	if len(items) > MaxSize {
+	return allFit(items, isItem)
+}
+
+// allFit reports whether there are few enough elements for a list, and each of them fits.
+func allFit[T any](list []T, fits func(element T) bool) bool {
+	if len(list) > MaxSize {
 		return false
 	}
-	for _, n := range items {
-		if !isItem(n) {
+	for _, element := range list {
+		if !fits(element) {
 			return false
 		}
 	}
