@@ -829,13 +829,8 @@ func TestStreamTreeInvalid(t *testing.T) {
 			}
 		}
 	}
-	// Aggregates of other kinds, of items that tell the kinds apart.
 	for of := 1; of <= 10; of++ {
-		events := []impl.Event{at(2, 50), at(9, 60)}
-		for range 50 {
-			events = append(events, at(5, 10), at(5, 90))
-		}
-		x := impl.Stream{Tree: putAll(t, of, events), Seen: 9}
+		x := impl.Stream{Tree: putAll(t, of, tellingEvents()), Seen: 9}
 		for k := 1; k <= 10; k++ {
 			s := ofKind(k, setups[of%len(setups)])
 			if k != of {
@@ -847,18 +842,23 @@ func TestStreamTreeInvalid(t *testing.T) {
 	}
 }
 
-// TestStreamTreeEndless: a tree that is far too deep, and one that is a part of itself.
-func TestStreamTreeEndless(t *testing.T) {
+// endlessTrees are a tree that is far too deep, and one that is a part of itself.
+func endlessTrees() []impl.Tree {
 	deep := impl.Tree{}
 	for i := range 100000 {
 		deep = impl.Tree{Time: i, Height: i + 1, Kids: []impl.Tree{deep, {}}}
 	}
 	kids := []impl.Tree{{Time: 1, Height: 1}, {}}
 	kids[0].Kids = kids
-	endless := impl.Tree{Time: 5, Height: 1, Kids: kids}
+	return []impl.Tree{deep, {Time: 5, Height: 1, Kids: kids}}
+}
+
+// TestStreamTreeEndless: trees without an end in a stream.
+func TestStreamTreeEndless(t *testing.T) {
+	trees := endlessTrees()
 	for _, s := range setups {
 		s.Kind = impl.KindSum
-		for _, tree := range []impl.Tree{deep, endless} {
+		for _, tree := range trees {
 			x := impl.Stream{Tree: tree, Seen: 400}
 			put, ok1 := impl.StreamPut(s, x, at(5, 5))
 			all, ok2 := impl.StreamFlush(s, x)

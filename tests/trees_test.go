@@ -1081,6 +1081,16 @@ func filledOrNone(k int, s *shape) impl.Tree {
 	return filled(k, s)
 }
 
+// tellingEvents are events at the times 2, 5 and 9 whose items tell apart the
+// kinds of which some aggregates look the same.
+func tellingEvents() []impl.Event {
+	events := []impl.Event{{Time: 2, Item: 50}, {Time: 9, Item: 60}}
+	for range 50 {
+		events = append(events, impl.Event{Time: 5, Item: 10}, impl.Event{Time: 5, Item: 90})
+	}
+	return events
+}
+
 // TestTreeKinds: numbers that are no kind, and trees of other kinds.
 func TestTreeKinds(t *testing.T) {
 	for _, k := range notKinds {
@@ -1089,11 +1099,7 @@ func TestTreeKinds(t *testing.T) {
 			rejectTree(t, k, filled(of, full(2, 4)))
 		}
 	}
-	// Some kinds have aggregates that look the same; these items tell them apart.
-	events := []impl.Event{{Time: 2, Item: 50}, {Time: 9, Item: 60}}
-	for range 50 {
-		events = append(events, impl.Event{Time: 5, Item: 10}, impl.Event{Time: 5, Item: 90})
-	}
+	events := tellingEvents()
 	for of := 1; of <= 10; of++ {
 		tree := putAll(t, of, events)
 		checkTree(t, of, tree, events)
